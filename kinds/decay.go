@@ -1,0 +1,37 @@
+package kinds
+
+import (
+	"sketch/api"
+	"sketch/item"
+	"sketch/weight"
+)
+
+// decayNotes keeps the sum by MaxWeight, since the whole of it may be more than an int can hold.
+type decayNotes struct {
+	config    api.Config
+	quotient  int
+	remainder int
+}
+
+func startDecay(c api.Config) Notes {
+	d := &decayNotes{config: c}
+	return Notes{Release: d.release, Query: d.query}
+}
+
+func (d *decayNotes) release(it item.Item) {
+	sum := d.remainder + d.weightOrZero(it.Time)
+	d.quotient += sum / api.MaxWeight
+	d.remainder = sum % api.MaxWeight
+}
+
+func (d *decayNotes) query(_, watermark int) ([]int, api.Errno) {
+	return []int{d.quotient, d.remainder, d.weightOrZero(watermark)}, api.OK
+}
+
+func (d *decayNotes) weightOrZero(time int) int {
+	w, some := weight.Of(d.config, time)
+	if !some {
+		return 0
+	}
+	return w
+}

@@ -1,0 +1,55 @@
+// Package kinds has what hangs on the kind of a series, as structs of functions.
+package kinds
+
+import (
+	"sketch/api"
+	"sketch/item"
+	"sketch/limit"
+)
+
+// Kind is what one kind does in its own way.
+type Kind struct {
+	// Fits tells whether what this kind names in a configuration is as it may be.
+	Fits func(c api.Config) bool
+	// Refuse is the first error that only this kind finds in an item; OK if there is none.
+	Refuse func(c api.Config, it item.Item) api.Errno
+	// Start makes the notes of a new series.
+	Start func(c api.Config) Notes
+}
+
+// Notes is what a series keeps of its released items, reached by the functions of its kind.
+type Notes struct {
+	Release func(it item.Item)
+	Query   func(a, watermark int) ([]int, api.Errno)
+}
+
+// Of is the kind of a configuration; false if it is no configuration.
+func Of(c api.Config) (Kind, bool) {
+	kind, known := find(c.Kind)
+	if !known || !commonFits(c) || !kind.Fits(c) {
+		return Kind{}, false
+	}
+	return kind, true
+}
+
+func find(number int) (Kind, bool) {
+	table := [...]Kind{
+		api.Count:    {Fits: countFits, Refuse: refuseNothing, Start: startNothing},
+		api.Distinct: {Fits: distinctFits, Refuse: refuseKey, Start: startNothing},
+		api.Often:    {Fits: oftenFits, Refuse: refuseKey, Start: startNothing},
+		api.Decay:    {Fits: decayFits, Refuse: refuseWeightless, Start: startDecay},
+		api.Drawn:    {Fits: drawnFits, Refuse: refuseDrawn, Start: startNothing},
+	}
+	if !limit.Within(number, api.Count, len(table)-1) {
+		return Kind{}, false
+	}
+	return table[number], true
+}
+
+// startNothing serves the kinds that have no notes yet: what is released is forgotten, and there is no QUERY of them.
+func startNothing(api.Config) Notes {
+	return Notes{
+		Release: func(item.Item) {},
+		Query:   func(int, int) ([]int, api.Errno) { return nil, api.ErrKind },
+	}
+}

@@ -1,0 +1,211 @@
+package sketch_test
+
+import (
+	"math/big"
+	"math/rand"
+	"slices"
+	"testing"
+
+	"sketch/api"
+	"sketch/sketch"
+)
+
+// model is the document once more, as slow and as plain as can be: it keeps every item.
+type model struct {
+	clock int
+	lines []*line
+}
+
+type line struct {
+	id      int
+	c       api.Config
+	waiting []int // times
+	gone    []int // times of what was released
+	numbers int
+	refused map[api.Errno]int
+}
+
+func big64(n int) *big.Int { return big.NewInt(int64(n)) }
+
+// bigWeight is nil if there is none.
+func bigWeight(c api.Config, time int) *big.Int {
+	age := new(big.Int).Sub(big64(time), big64(c.Mark))
+	if age.Sign() < 0 {
+		return nil
+	}
+	w := new(big.Int)
+	if c.Half == 0 {
+		w.Exp(age.Add(age, big.NewInt(1)), big64(c.Degree), nil)
+	} else if age.Div(age, big64(c.Half)); age.Cmp(big.NewInt(1000)) > 0 {
+		return nil
+	} else {
+		w.Lsh(big.NewInt(1), uint(age.Int64()))
+	}
+	if w.Cmp(big64(api.MaxWeight)) > 0 {
+		return nil
+	}
+	return w
+}
+
+func (m *model) line(id int) *line {
+	at := slices.IndexFunc(m.lines, func(l *line) bool { return l.id == id })
+	if at < 0 {
+		return nil
+	}
+	return m.lines[at]
+}
+
+func (m *model) add(l *line, op api.Op) api.Answer {
+	k := l.c.Kind
+	tests := []struct {
+		applies bool
+		code    api.Errno
+	}{
+		{op.A < 0 || op.A > api.MaxTime, api.ErrTime},
+		{op.A <= m.clock-l.c.Lag, api.ErrLate},
+		{op.A > m.clock+l.c.Skew, api.ErrFuture},
+		{(k == api.Decay || k == api.Drawn) && bigWeight(l.c, op.A) == nil, api.ErrHorizon},
+		{(k == api.Distinct || k == api.Often || k == api.Drawn) && (op.B < 0 || op.B > api.MaxKey), api.ErrKey},
+		{k == api.Drawn && (op.C < 1 || op.C > api.MaxDraw), api.ErrDraw},
+		{len(l.waiting) == l.c.Cap, api.ErrCap},
+	}
+	for _, x := range tests {
+		if x.applies {
+			l.refused[x.code]++
+			return api.Answer{Code: x.code}
+		}
+	}
+	l.numbers++
+	l.waiting = append(l.waiting, op.A)
+	return api.Answer{Numbers: []int{l.numbers}}
+}
+
+func (m *model) tick(time int) {
+	m.clock = max(m.clock, time)
+	for _, l := range m.lines {
+		l.waiting = slices.DeleteFunc(l.waiting, func(t int) bool {
+			if t > m.clock-l.c.Lag {
+				return false
+			}
+			l.gone = append(l.gone, t)
+			return true
+		})
+	}
+}
+
+func (m *model) decay(l *line) []int {
+	sum, rest := new(big.Int), new(big.Int)
+	for _, t := range l.gone {
+		sum.Add(sum, bigWeight(l.c, t))
+	}
+	sum.DivMod(sum, big64(api.MaxWeight), rest)
+	now := bigWeight(l.c, m.clock-l.c.Lag)
+	if now == nil {
+		now = new(big.Int)
+	}
+	return []int{int(sum.Int64()), int(rest.Int64()), int(now.Int64())}
+}
+
+// step answers; false if this stage asks nothing of the Numbers and Bytes of this step.
+func (m *model) step(op api.Op) (api.Answer, bool) {
+	l := m.line(op.Id)
+	switch {
+	case op.Kind == api.Create:
+		return m.create(l, op), true
+	case op.Kind == api.Tick:
+		return m.checkedTick(op)
+	case op.Kind == api.Save || op.Kind == api.Load:
+		return api.Answer{}, false
+	case op.Kind < api.Create || op.Kind > api.Load:
+		return api.Answer{Code: api.ErrKind}, true
+	case l == nil:
+		return api.Answer{Code: api.ErrId}, true
+	case op.Kind == api.Add:
+		return m.add(l, op), true
+	case op.Kind == api.Query:
+		if l.c.Kind != api.Decay {
+			return api.Answer{}, false
+		}
+		return api.Answer{Numbers: m.decay(l)}, true
+	}
+	r := l.refused
+	return api.Answer{Numbers: []int{l.numbers, len(l.gone), r[api.ErrTime], r[api.ErrLate], r[api.ErrFuture], r[api.ErrHorizon], r[api.ErrKey], r[api.ErrDraw], r[api.ErrCap]}}, true
+}
+
+func (m *model) create(l *line, op api.Op) api.Answer {
+	switch {
+	case op.Id < 0 || op.Id > 99 || l != nil:
+		return api.Answer{Code: api.ErrId}
+	case !fits(op.Config):
+		return api.Answer{Code: api.ErrConfig}
+	case len(m.lines) == 6:
+		return api.Answer{Code: api.ErrFull}
+	}
+	m.lines = append(m.lines, &line{id: op.Id, c: op.Config, refused: map[api.Errno]int{}})
+	return api.Answer{}
+}
+
+func (m *model) checkedTick(op api.Op) (api.Answer, bool) {
+	if op.A < 0 || op.A > api.MaxTime {
+		return api.Answer{Code: api.ErrTime}, true
+	}
+	if op.B < 0 || op.B > 100 {
+		return api.Answer{Code: api.ErrBudget}, true
+	}
+	m.tick(op.A)
+	buckets := slices.ContainsFunc(m.lines, func(l *line) bool { return l.c.Kind == api.Count })
+	return api.Answer{Numbers: []int{0}}, !buckets
+}
+
+// modelScript goes on slowly with the time, so that items are late, wait and are released; one of some edges at times.
+func modelScript(r *rand.Rand, length int) []api.Op {
+	clock := []int{0, 0, 50, 1<<20 + 300000, 1<<61 - 20, api.MaxTime - 60}[r.Intn(6)]
+	script := []api.Op{tick(clock, 0)}
+	for range 8 {
+		c := base(1 + r.Intn(5))
+		c.Lag, c.Skew, c.Cap = r.Intn(8), r.Intn(12), 1+r.Intn(8)
+		c.Degree, c.Half, c.Mark = r.Intn(4), r.Intn(3), max(0, clock-70+r.Intn(80))
+		script = append(script, create(r.Intn(9), c))
+	}
+	for len(script) < length {
+		id := r.Intn(9)
+		switch n := r.Intn(20); {
+		case n < 10:
+			script = append(script, add(id, clock+r.Intn(24)-10, r.Intn(40)-1, r.Intn(40)-1))
+		case n < 13:
+			clock += r.Intn(5)
+			script = append(script, tick(clock-r.Intn(2), r.Intn(3)))
+		case n < 16:
+			script = append(script, query(id))
+		case n < 19:
+			script = append(script, stats(id))
+		default:
+			script = append(script, wildScript(r, 1)...)
+			if script[len(script)-1].Kind == api.Tick && r.Intn(4) > 0 {
+				script = script[:len(script)-1] // else every clock would soon be at its end
+			}
+		}
+	}
+	return script
+}
+
+func TestAsTheModel(t *testing.T) {
+	r := rand.New(rand.NewSource(3))
+	met := map[api.Errno]int{}
+	for range 2000 {
+		script := modelScript(r, 80)
+		m := &model{}
+		for i, a := range sketch.Run(script) {
+			want, asked := m.step(script[i])
+			if asked && !sameAnswer(want, a) {
+				t.Fatalf("step %d %+v: answered %+v, want %+v", i, script[i], a, want)
+			}
+			met[a.Code]++
+		}
+	}
+	for code := api.OK; code <= api.ErrBudget; code++ {
+		if met[code] == 0 {
+			t.Errorf("the scripts never met the error %d", code)
+		}
+	}
+}
