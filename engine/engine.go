@@ -70,8 +70,18 @@ func (e *Engine) tick(op api.Op) api.Answer {
 	for _, s := range e.series {
 		s.release(s.watermark(e.clock))
 	}
-	// No kind has buckets yet, so none of them is dead.
-	return api.Answer{Numbers: []int{0}}
+	return api.Answer{Numbers: []int{e.sweep(op.B)}}
+}
+
+// sweep is how many dead buckets are left behind it; the series share one budget.
+func (e *Engine) sweep(budget int) int {
+	all := 0
+	for _, s := range e.series {
+		thrown, left := s.notes.Sweep(s.watermark(e.clock), budget)
+		budget -= thrown
+		all += left
+	}
+	return all
 }
 
 func (e *Engine) query(op api.Op) api.Answer {

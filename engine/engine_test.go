@@ -25,7 +25,7 @@ func watched(t *testing.T, log *[]passed, ids ...int) *Engine {
 		if a := e.Step(api.Op{Kind: api.Create, Id: id, Config: c}); a.Code != api.OK {
 			t.Fatalf("CREATE: %d", a.Code)
 		}
-		e.find(id).notes.Release = func(it item.Item) { *log = append(*log, passed{id, it}) }
+		e.find(id).notes.Release = func(it item.Item, _ int) { *log = append(*log, passed{id, it}) }
 	}
 	return e
 }
@@ -62,6 +62,45 @@ func TestReleasedByTimeThenByNumber(t *testing.T) {
 	e.mustTick(t, 9)
 	if last := log[len(log)-1]; len(log) != 8 || last.it.Number != 6 {
 		t.Errorf("released %v", log)
+	}
+}
+
+func TestReleaseTellsTheWatermarkThatLetsItGo(t *testing.T) {
+	e := &Engine{}
+	e.Step(api.Op{Kind: api.Create, Id: 7, Config: api.Config{Kind: api.Count, Lag: 3, Skew: 100, Cap: 8, K: 1, Window: 10}})
+	var told [][2]int
+	e.find(7).notes.Release = func(it item.Item, watermark int) { told = append(told, [2]int{it.Time, watermark}) }
+	for _, time := range []int{8, 1, 4} {
+		e.mustAdd(t, 7, time, 0, 0)
+	}
+	for _, time := range []int{4, 9, 50} {
+		e.mustTick(t, time)
+	}
+	if want := [][2]int{{1, 1}, {4, 6}, {8, 47}}; !slices.Equal(told, want) {
+		t.Errorf("times and watermarks %v, want %v", told, want)
+	}
+}
+
+// The budget goes from series to series in the order of their creation; each one is told its own watermark.
+func TestSweepSharesTheBudget(t *testing.T) {
+	e := &Engine{}
+	dead := map[int]int{50: 3, 3: 4, 99: 5}
+	type call struct{ id, watermark, budget int }
+	var calls []call
+	for i, id := range []int{50, 3, 99} {
+		e.Step(api.Op{Kind: api.Create, Id: id, Config: api.Config{Kind: api.Decay, Lag: i, Cap: 8}})
+		e.find(id).notes.Sweep = func(watermark, budget int) (int, int) {
+			calls = append(calls, call{id, watermark, budget})
+			thrown := min(budget, dead[id])
+			return thrown, dead[id] - thrown
+		}
+	}
+	a := e.Step(api.Op{Kind: api.Tick, A: 9, B: 5})
+	if want := []call{{50, 9, 5}, {3, 8, 2}, {99, 7, 0}}; !slices.Equal(calls, want) {
+		t.Errorf("swept %v, want %v", calls, want)
+	}
+	if !slices.Equal(a.Numbers, []int{7}) {
+		t.Errorf("left are %v, want 7", a.Numbers)
 	}
 }
 

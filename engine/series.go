@@ -60,7 +60,7 @@ func (s *series) release(watermark int) {
 		}
 		s.buffer.Take()
 		s.released++
-		s.notes.Release(it)
+		s.notes.Release(it, watermark)
 	}
 }
 

@@ -15,10 +15,10 @@ type decayNotes struct {
 
 func startDecay(c api.Config) Notes {
 	d := &decayNotes{config: c}
-	return Notes{Release: d.release, Query: d.query}
+	return Notes{Release: d.release, Query: d.query, Sweep: sweepNothing}
 }
 
-func (d *decayNotes) release(it item.Item) {
+func (d *decayNotes) release(it item.Item, _ int) {
 	sum := d.remainder + d.weightOrZero(it.Time)
 	d.quotient += sum / api.MaxWeight
 	d.remainder = sum % api.MaxWeight

@@ -19,8 +19,11 @@ type Kind struct {
 
 // Notes is what a series keeps of its released items, reached by the functions of its kind.
 type Notes struct {
-	Release func(it item.Item)
+	// Release takes an item that this watermark lets go.
+	Release func(it item.Item, watermark int)
 	Query   func(a, watermark int) ([]int, api.Errno)
+	// Sweep throws away what is dead by this watermark, up to the budget; it tells how much it threw away and how much of it is left.
+	Sweep func(watermark, budget int) (thrown, left int)
 }
 
 // Of is the kind of a configuration; false if it is no configuration.
@@ -34,7 +37,7 @@ func Of(c api.Config) (Kind, bool) {
 
 func find(number int) (Kind, bool) {
 	table := [...]Kind{
-		api.Count:    {Fits: countFits, Refuse: refuseNothing, Start: startNothing},
+		api.Count:    {Fits: countFits, Refuse: refuseNothing, Start: startCount},
 		api.Distinct: {Fits: distinctFits, Refuse: refuseKey, Start: startNothing},
 		api.Often:    {Fits: oftenFits, Refuse: refuseKey, Start: startNothing},
 		api.Decay:    {Fits: decayFits, Refuse: refuseWeightless, Start: startDecay},
@@ -49,7 +52,11 @@ func find(number int) (Kind, bool) {
 // startNothing serves the kinds that have no notes yet: what is released is forgotten, and there is no QUERY of them.
 func startNothing(api.Config) Notes {
 	return Notes{
-		Release: func(item.Item) {},
+		Release: func(item.Item, int) {},
 		Query:   func(int, int) ([]int, api.Errno) { return nil, api.ErrKind },
+		Sweep:   sweepNothing,
 	}
 }
+
+// sweepNothing serves the kinds that have no buckets.
+func sweepNothing(int, int) (thrown, left int) { return 0, 0 }

@@ -15,7 +15,7 @@ func TestEveryKindHasAllFunctions(t *testing.T) {
 		if !known || k.Fits == nil || k.Refuse == nil || k.Start == nil {
 			t.Fatalf("kind %d: %v, %+v", number, known, k)
 		}
-		if n := k.Start(api.Config{}); n.Release == nil || n.Query == nil {
+		if n := k.Start(api.Config{}); n.Release == nil || n.Query == nil || n.Sweep == nil {
 			t.Errorf("kind %d: notes %+v", number, n)
 		}
 	}
@@ -58,9 +58,9 @@ func TestRefusals(t *testing.T) {
 func TestDecayNotesStandAlone(t *testing.T) {
 	a, b := startDecay(api.Config{Half: 1}), startDecay(api.Config{Half: 1})
 	for range 3 {
-		a.Release(item.Item{Time: 60})
+		a.Release(item.Item{Time: 60}, 60)
 	}
-	b.Release(item.Item{Time: 2})
+	b.Release(item.Item{Time: 2}, 2)
 	got, code := a.Query(0, 61)
 	if code != api.OK || !slices.Equal(got, []int{1, 1 << 60, 1 << 61}) {
 		t.Errorf("a: %v %d", got, code)

@@ -21,9 +21,13 @@ type line struct {
 	c       api.Config
 	waiting []int // times
 	gone    []int // times of what was released
+	row     []pail
 	numbers int
 	refused map[api.Errno]int
 }
+
+// pail is a bucket of COUNT; the newest one stands first in its row.
+type pail struct{ time, size int }
 
 func big64(n int) *big.Int { return big.NewInt(int64(n)) }
 
@@ -80,17 +84,81 @@ func (m *model) add(l *line, op api.Op) api.Answer {
 	return api.Answer{Numbers: []int{l.numbers}}
 }
 
-func (m *model) tick(time int) {
+func (m *model) tick(time, budget int) (left int) {
 	m.clock = max(m.clock, time)
 	for _, l := range m.lines {
-		l.waiting = slices.DeleteFunc(l.waiting, func(t int) bool {
-			if t > m.clock-l.c.Lag {
-				return false
-			}
-			l.gone = append(l.gone, t)
-			return true
-		})
+		m.release(l)
 	}
+	for _, l := range m.lines {
+		for ; budget > 0 && m.dead(l) > 0; budget-- {
+			l.row = l.row[:len(l.row)-1]
+		}
+		left += m.dead(l)
+	}
+	return left
+}
+
+func (m *model) release(l *line) {
+	slices.Sort(l.waiting)
+	for len(l.waiting) > 0 && l.waiting[0] <= m.clock-l.c.Lag {
+		l.gone = append(l.gone, l.waiting[0])
+		if l.c.Kind == api.Count {
+			l.row = l.row[:len(l.row)-m.dead(l)]
+			l.row = slices.Insert(l.row, 0, pail{l.waiting[0], 1})
+			l.joinAll()
+		}
+		l.waiting = l.waiting[1:]
+	}
+}
+
+func (m *model) dead(l *line) int {
+	n := 0
+	for _, p := range l.row {
+		if p.time <= m.clock-l.c.Lag-l.c.Window {
+			n++
+		}
+	}
+	return n
+}
+
+// joinAll goes through all sizes, whether the one ahead was joined or not.
+func (l *line) joinAll() {
+	for bit := range 61 {
+		var places []int
+		for i, p := range l.row {
+			if p.size == 1<<bit {
+				places = append(places, i)
+			}
+		}
+		if len(places) <= l.c.K+1 {
+			continue
+		}
+		newer, older := places[len(places)-2], places[len(places)-1]
+		l.row[newer].size *= 2
+		l.row = slices.Delete(l.row, older, older+1)
+	}
+}
+
+func (m *model) estimate(l *line, w int) int {
+	sum, half := 0, 0
+	for _, p := range l.row {
+		if p.time > m.clock-l.c.Lag-w {
+			sum += p.size
+			half = p.size / 2
+		}
+	}
+	return sum - half
+}
+
+// within is how many items are, just so.
+func (m *model) within(l *line, w int) int {
+	n := 0
+	for _, time := range l.gone {
+		if time > m.clock-l.c.Lag-w {
+			n++
+		}
+	}
+	return n
 }
 
 func (m *model) decay(l *line) []int {
@@ -113,7 +181,7 @@ func (m *model) step(op api.Op) (api.Answer, bool) {
 	case op.Kind == api.Create:
 		return m.create(l, op), true
 	case op.Kind == api.Tick:
-		return m.checkedTick(op)
+		return m.checkedTick(op), true
 	case op.Kind == api.Save || op.Kind == api.Load:
 		return api.Answer{}, false
 	case op.Kind < api.Create || op.Kind > api.Load:
@@ -123,10 +191,7 @@ func (m *model) step(op api.Op) (api.Answer, bool) {
 	case op.Kind == api.Add:
 		return m.add(l, op), true
 	case op.Kind == api.Query:
-		if l.c.Kind != api.Decay {
-			return api.Answer{}, false
-		}
-		return api.Answer{Numbers: m.decay(l)}, true
+		return m.query(l, op)
 	}
 	r := l.refused
 	return api.Answer{Numbers: []int{l.numbers, len(l.gone), r[api.ErrTime], r[api.ErrLate], r[api.ErrFuture], r[api.ErrHorizon], r[api.ErrKey], r[api.ErrDraw], r[api.ErrCap]}}, true
@@ -145,16 +210,26 @@ func (m *model) create(l *line, op api.Op) api.Answer {
 	return api.Answer{}
 }
 
-func (m *model) checkedTick(op api.Op) (api.Answer, bool) {
+func (m *model) query(l *line, op api.Op) (api.Answer, bool) {
+	switch {
+	case l.c.Kind == api.Decay:
+		return api.Answer{Numbers: m.decay(l)}, true
+	case l.c.Kind != api.Count:
+		return api.Answer{}, false
+	case op.A < 1 || op.A > l.c.Window:
+		return api.Answer{Code: api.ErrRange}, true
+	}
+	return api.Answer{Numbers: []int{m.estimate(l, op.A)}}, true
+}
+
+func (m *model) checkedTick(op api.Op) api.Answer {
 	if op.A < 0 || op.A > api.MaxTime {
-		return api.Answer{Code: api.ErrTime}, true
+		return api.Answer{Code: api.ErrTime}
 	}
 	if op.B < 0 || op.B > 100 {
-		return api.Answer{Code: api.ErrBudget}, true
+		return api.Answer{Code: api.ErrBudget}
 	}
-	m.tick(op.A)
-	buckets := slices.ContainsFunc(m.lines, func(l *line) bool { return l.c.Kind == api.Count })
-	return api.Answer{Numbers: []int{0}}, !buckets
+	return api.Answer{Numbers: []int{m.tick(op.A, op.B)}}
 }
 
 // modelScript goes on slowly with the time, so that items are late, wait and are released; one of some edges at times.
@@ -165,6 +240,9 @@ func modelScript(r *rand.Rand, length int) []api.Op {
 		c := base(1 + r.Intn(5))
 		c.Lag, c.Skew, c.Cap = r.Intn(8), r.Intn(12), 1+r.Intn(8)
 		c.Degree, c.Half, c.Mark = r.Intn(4), r.Intn(3), max(0, clock-70+r.Intn(80))
+		if c.Kind == api.Count {
+			c.K, c.Window = 1+r.Intn(3), 1+r.Intn(30)
+		}
 		script = append(script, create(r.Intn(9), c))
 	}
 	for len(script) < length {
@@ -176,7 +254,7 @@ func modelScript(r *rand.Rand, length int) []api.Op {
 			clock += r.Intn(5)
 			script = append(script, tick(clock-r.Intn(2), r.Intn(3)))
 		case n < 16:
-			script = append(script, query(id))
+			script = append(script, ask(id, r.Intn(33)))
 		case n < 19:
 			script = append(script, stats(id))
 		default:

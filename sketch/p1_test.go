@@ -91,9 +91,9 @@ func TestP1EdgesInEachField(t *testing.T) {
 }
 
 func TestP1LongScriptEnds(t *testing.T) {
-	script := []api.Op{create(0, base(api.Decay))}
+	script := []api.Op{create(0, base(api.Decay)), create(1, count(api.MaxK, api.MaxWindow))}
 	for i := range 100000 {
-		script = append(script, addAt(0, i+1), tick(i, 1))
+		script = append(script, addAt(0, i+1), addAt(1, i+1), tick(i, 1))
 	}
 	if n := len(sketch.Run(script)); n != len(script) {
 		t.Errorf("P1: %d answers to %d steps", n, len(script))

@@ -20,7 +20,7 @@ func fullScript() []api.Op {
 	script = append(script, create(0, base(api.Decay)), create(9, base(api.Decay)), create(0, base(api.Count)))
 	for time := range 12 {
 		for id := range 7 {
-			script = append(script, add(id, time+1, 3, 2), add(id, time+3, 5, time), add(id, time+2, -1, 1), stats(id), query(id))
+			script = append(script, add(id, time+1, 3, 2), add(id, time+3, 5, time), add(id, time+2, -1, 1), stats(id), ask(id, time))
 		}
 		script = append(script, tick(time, time), tick(-1, 0), tick(0, 101), api.Op{Kind: api.Save}, api.Op{Kind: time + 8})
 	}

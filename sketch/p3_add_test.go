@@ -28,7 +28,7 @@ func TestP3AddAtTheGreatestTimes(t *testing.T) {
 		good(stats(7), 4, 1, 1, 2, 0, 0, 0, 0, 0))
 	c.Lag, c.Skew = api.MaxLag, api.MaxSkew
 	check(t, "P3: the greatest Lag and Skew", good(create(7, c)),
-		good(addAt(7, 100), 1), bad(addAt(7, 101), api.ErrFuture), good(tick(100, 0), 0), bad(addAt(7, 0), api.ErrLate), good(addAt(7, 1), 2), good(tick(199, 0), 0), good(stats(7), 2, 1, 0, 1, 1, 0, 0, 0, 0), good(tick(200, 0), 0), good(stats(7), 2, 2, 0, 1, 1, 0, 0, 0, 0))
+		good(addAt(7, 100), 1), bad(addAt(7, 101), api.ErrFuture), good(tick(100, 0), 0), bad(addAt(7, 0), api.ErrLate), good(addAt(7, 1), 2), good(tick(199, 0), 1), good(stats(7), 2, 1, 0, 1, 1, 0, 0, 0, 0), good(tick(200, 0), 0), good(stats(7), 2, 2, 0, 1, 1, 0, 0, 0, 0))
 	c.Lag, c.Skew = 0, 0
 	check(t, "P3: no Lag and no Skew: no time is left", good(create(7, c)),
 		bad(addAt(7, 0), api.ErrLate), bad(addAt(7, 1), api.ErrFuture), good(tick(4, 0), 0), bad(addAt(7, 4), api.ErrLate), bad(addAt(7, 5), api.ErrFuture), good(stats(7), 0, 0, 0, 2, 2, 0, 0, 0, 0))

@@ -63,11 +63,6 @@ func TestP3BudgetsReleaseNothingMoreOrLess(t *testing.T) {
 	}
 }
 
-func TestP3Example1(t *testing.T) {
-	check(t, "P3: example 1", good(create(7, api.Config{Kind: api.Count, K: 1, Window: 10, Lag: 2, Skew: 5, Cap: 8})),
-		good(addAt(7, 3), 1), good(addAt(7, 3), 2), bad(addAt(7, 6), api.ErrFuture), bad(addAt(7, -1), api.ErrTime), good(tick(5, 0), 0), bad(addAt(7, 3), api.ErrLate), good(stats(7), 2, 2, 1, 1, 1, 0, 0, 0, 0))
-}
-
 func TestP3StepsOfNoKind(t *testing.T) {
 	for _, kind := range []int{math.MinInt, -7, -1, 0, 8, 9, 1 << 32, math.MaxInt} {
 		op := addAt(7, 1)

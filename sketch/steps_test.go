@@ -21,6 +21,8 @@ func tick(time, budget int) api.Op { return api.Op{Kind: api.Tick, A: time, B: b
 
 func query(id int) api.Op { return api.Op{Kind: api.Query, Id: id} }
 
+func ask(id, a int) api.Op { return api.Op{Kind: api.Query, Id: id, A: a} }
+
 func stats(id int) api.Op { return api.Op{Kind: api.Stats, Id: id} }
 
 // step is a step and the answer that the document asks for.
