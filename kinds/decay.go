@@ -19,19 +19,11 @@ func startDecay(c api.Config) Notes {
 }
 
 func (d *decayNotes) release(it item.Item, _ int) {
-	sum := d.remainder + d.weightOrZero(it.Time)
+	sum := d.remainder + weight.OrZero(d.config, it.Time)
 	d.quotient += sum / api.MaxWeight
 	d.remainder = sum % api.MaxWeight
 }
 
 func (d *decayNotes) query(_, watermark int) ([]int, api.Errno) {
-	return []int{d.quotient, d.remainder, d.weightOrZero(watermark)}, api.OK
-}
-
-func (d *decayNotes) weightOrZero(time int) int {
-	w, some := weight.Of(d.config, time)
-	if !some {
-		return 0
-	}
-	return w
+	return []int{d.quotient, d.remainder, weight.OrZero(d.config, watermark)}, api.OK
 }

@@ -38,24 +38,15 @@ func Of(c api.Config) (Kind, bool) {
 func find(number int) (Kind, bool) {
 	table := [...]Kind{
 		api.Count:    {Fits: countFits, Refuse: refuseNothing, Start: startCount},
-		api.Distinct: {Fits: distinctFits, Refuse: refuseKey, Start: startNothing},
-		api.Often:    {Fits: oftenFits, Refuse: refuseKey, Start: startNothing},
+		api.Distinct: {Fits: distinctFits, Refuse: refuseKey, Start: startDistinct},
+		api.Often:    {Fits: oftenFits, Refuse: refuseKey, Start: startOften},
 		api.Decay:    {Fits: decayFits, Refuse: refuseWeightless, Start: startDecay},
-		api.Drawn:    {Fits: drawnFits, Refuse: refuseDrawn, Start: startNothing},
+		api.Drawn:    {Fits: drawnFits, Refuse: refuseDrawn, Start: startDrawn},
 	}
 	if !limit.Within(number, api.Count, len(table)-1) {
 		return Kind{}, false
 	}
 	return table[number], true
-}
-
-// startNothing serves the kinds that have no notes yet: what is released is forgotten, and there is no QUERY of them.
-func startNothing(api.Config) Notes {
-	return Notes{
-		Release: func(item.Item, int) {},
-		Query:   func(int, int) ([]int, api.Errno) { return nil, api.ErrKind },
-		Sweep:   sweepNothing,
-	}
 }
 
 // sweepNothing serves the kinds that have no buckets.

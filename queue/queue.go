@@ -1,6 +1,8 @@
 // Package queue gives things out in an order that its user chooses.
 package queue
 
+import "slices"
+
 // Queue is a heap. Its order is a field, so that one type serves whatever goes ahead of whatever.
 type Queue[T any] struct {
 	ahead func(a, b T) bool
@@ -41,6 +43,17 @@ func (q *Queue[T]) Take() (T, bool) {
 	q.heap = q.heap[:last]
 	q.sink(0)
 	return first, true
+}
+
+// All is a new list of all that wait, in the order in which they would be given out; they stay.
+func (q *Queue[T]) All() []T {
+	rest := &Queue[T]{ahead: q.ahead, heap: slices.Clone(q.heap)}
+	all := make([]T, 0, q.Len())
+	for rest.Len() > 0 {
+		first, _ := rest.Take()
+		all = append(all, first)
+	}
+	return all
 }
 
 func (q *Queue[T]) rise(at int) {

@@ -97,3 +97,34 @@ func TestOrderIsOfTheQueue(t *testing.T) {
 		t.Errorf("by letters: %v", got)
 	}
 }
+
+// All gives out in order, changes nothing and shares nothing with the queue.
+func TestAllLeavesTheQueue(t *testing.T) {
+	r := rand.New(rand.NewSource(3))
+	for range 300 {
+		q := New(func(a, b int) bool { return a > b })
+		var want []int
+		for range r.Intn(12) {
+			n := r.Intn(10)
+			q.Put(n)
+			want = append(want, -n)
+		}
+		slices.Sort(want)
+		for i := range want {
+			want[i] = -want[i]
+		}
+		for range 2 {
+			got := q.All()
+			if !slices.Equal(got, want) || q.Len() != len(want) {
+				t.Fatalf("all are %v, want %v; %d wait", got, want, q.Len())
+			}
+			all := got[:cap(got)]
+			for i := range all {
+				all[i] = 1000 + i
+			}
+		}
+		if got := takeAll(q); !slices.Equal(got, want) {
+			t.Fatalf("given out behind All: %v, want %v", got, want)
+		}
+	}
+}

@@ -35,6 +35,11 @@ func (r *Row[T]) Past(time int) int {
 // Lose throws the n oldest ones away.
 func (r *Row[T]) Lose(n int) { r.list = slices.Delete(r.list, 0, n) }
 
+// Drop throws the n newest ones away.
+func (r *Row[T]) Drop(n int) {
+	r.list = slices.Delete(r.list, len(r.list)-n, len(r.list))
+}
+
 // Join puts x in the place of two neighbours, the older one of which is at this place.
 func (r *Row[T]) Join(place int, x T) {
 	r.list = slices.Replace(r.list, place, place+2, x)

@@ -66,6 +66,20 @@ func TestLosesTheOldest(t *testing.T) {
 	}
 }
 
+func TestDropsTheNewest(t *testing.T) {
+	for n, want := range []string{"abcd", "abc", "ab", "a", ""} {
+		r := named(1, 2, 2, 5)
+		r.Drop(n)
+		if names(r) != want || r.Len() != len(want) {
+			t.Errorf("behind the loss of the %d newest: %q, want %q", n, names(r), want)
+		}
+		r.Put(stamped{7, "z"})
+		if names(r) != want+"z" || r.Past(6) != len(want) {
+			t.Errorf("and one more: %q, %d are past", names(r), r.Past(6))
+		}
+	}
+}
+
 func TestJoin(t *testing.T) {
 	for place, want := range []string{"XYcd", "aXYd", "abXY"} {
 		r := named(1, 2, 2, 5)
@@ -95,7 +109,7 @@ func TestLikeAPlainSlice(t *testing.T) {
 	r := New(func(n int) int { return n })
 	var want []int
 	for next := range 5000 {
-		switch rnd.Intn(4) {
+		switch rnd.Intn(6) {
 		case 0:
 			n := r.Past(next - 1 - rnd.Intn(20))
 			r.Lose(n)
@@ -106,9 +120,13 @@ func TestLikeAPlainSlice(t *testing.T) {
 				r.Join(at, want[at+1])
 				want = slices.Delete(slices.Clone(want), at, at+1)
 			}
+		case 2:
+			n := min(rnd.Intn(3), len(want))
+			r.Drop(n)
+			want = want[:len(want)-n]
 		default:
 			r.Put(next)
-			want = append(want, next)
+			want = append(slices.Clone(want), next)
 		}
 		if !slices.Equal(r.list, want) || r.Len() != len(want) {
 			t.Fatalf("%v, want %v", r.list, want)

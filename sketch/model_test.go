@@ -1,6 +1,7 @@
 package sketch_test
 
 import (
+	"cmp"
 	"math/big"
 	"math/rand"
 	"slices"
@@ -19,12 +20,14 @@ type model struct {
 type line struct {
 	id      int
 	c       api.Config
-	waiting []int // times
-	gone    []int // times of what was released
+	waiting []thing
+	gone    []thing // what was released
 	row     []pail
 	numbers int
 	refused map[api.Errno]int
 }
+
+type thing struct{ time, key, draw, number int }
 
 // pail is a bucket of COUNT; the newest one stands first in its row.
 type pail struct{ time, size int }
@@ -80,7 +83,7 @@ func (m *model) add(l *line, op api.Op) api.Answer {
 		}
 	}
 	l.numbers++
-	l.waiting = append(l.waiting, op.A)
+	l.waiting = append(l.waiting, thing{op.A, op.B, op.C, l.numbers})
 	return api.Answer{Numbers: []int{l.numbers}}
 }
 
@@ -99,12 +102,14 @@ func (m *model) tick(time, budget int) (left int) {
 }
 
 func (m *model) release(l *line) {
-	slices.Sort(l.waiting)
-	for len(l.waiting) > 0 && l.waiting[0] <= m.clock-l.c.Lag {
+	slices.SortFunc(l.waiting, func(a, b thing) int {
+		return cmp.Or(cmp.Compare(a.time, b.time), cmp.Compare(a.number, b.number))
+	})
+	for len(l.waiting) > 0 && l.waiting[0].time <= m.clock-l.c.Lag {
 		l.gone = append(l.gone, l.waiting[0])
 		if l.c.Kind == api.Count {
 			l.row = l.row[:len(l.row)-m.dead(l)]
-			l.row = slices.Insert(l.row, 0, pail{l.waiting[0], 1})
+			l.row = slices.Insert(l.row, 0, pail{l.waiting[0].time, 1})
 			l.joinAll()
 		}
 		l.waiting = l.waiting[1:]
@@ -150,21 +155,21 @@ func (m *model) estimate(l *line, w int) int {
 	return sum - half
 }
 
-// within is how many items are, just so.
-func (m *model) within(l *line, w int) int {
-	n := 0
-	for _, time := range l.gone {
-		if time > m.clock-l.c.Lag-w {
-			n++
+// within is the items that are, just so.
+func (m *model) within(l *line, w int) []thing {
+	var list []thing
+	for _, x := range l.gone {
+		if x.time > m.clock-l.c.Lag-w {
+			list = append(list, x)
 		}
 	}
-	return n
+	return list
 }
 
 func (m *model) decay(l *line) []int {
 	sum, rest := new(big.Int), new(big.Int)
-	for _, t := range l.gone {
-		sum.Add(sum, bigWeight(l.c, t))
+	for _, x := range l.gone {
+		sum.Add(sum, bigWeight(l.c, x.time))
 	}
 	sum.DivMod(sum, big64(api.MaxWeight), rest)
 	now := bigWeight(l.c, m.clock-l.c.Lag)
@@ -172,6 +177,75 @@ func (m *model) decay(l *line) []int {
 		now = new(big.Int)
 	}
 	return []int{int(sum.Int64()), int(rest.Int64()), int(now.Int64())}
+}
+
+func bigHash(pair [2]int, key int) int {
+	h := new(big.Int).Mul(big64(pair[0]), big64(key))
+	h.Add(h, big64(pair[1]))
+	return int(h.Mod(h, big64(api.Prime)).Int64())
+}
+
+// ranked halves as the document says it.
+func ranked(quotient int) int {
+	if quotient == 0 {
+		return 40
+	}
+	rank := 1
+	for ; quotient%2 == 0; quotient /= 2 {
+		rank++
+	}
+	return min(rank, 40)
+}
+
+func (m *model) distinct(l *line, w int) []int {
+	registers := 1 << l.c.Bits
+	numbers := make([]int, registers)
+	for _, x := range m.within(l, w) {
+		h := bigHash(l.c.Seeds[0], x.key)
+		numbers[h%registers] = max(numbers[h%registers], ranked(h/registers))
+	}
+	sum := new(big.Int)
+	for _, n := range numbers {
+		sum.Add(sum, new(big.Int).Lsh(big.NewInt(10), uint(40-n)))
+	}
+	top := new(big.Int).Lsh(big64(7*registers*registers), 40)
+	return append(numbers, int(top.Div(top, sum).Int64()))
+}
+
+// often goes through all times of the Window to see which panes are counted.
+func (m *model) often(l *line, key int) int {
+	length, mark := l.c.Window/l.c.Panes, m.clock-l.c.Lag
+	panes := map[int]bool{}
+	for time := max(0, mark-l.c.Window+1); time <= mark; time++ {
+		panes[time/length] = true
+	}
+	var counts []int
+	for _, pair := range l.c.Seeds[:l.c.Rows] {
+		n := 0
+		for _, x := range l.gone {
+			if panes[x.time/length] && bigHash(pair, x.key)%l.c.Width == bigHash(pair, key)%l.c.Width {
+				n++
+			}
+		}
+		counts = append(counts, n)
+	}
+	return slices.Min(counts)
+}
+
+func (m *model) drawn(l *line) []int {
+	quotient := func(x thing) *big.Rat { return new(big.Rat).SetFrac(bigWeight(l.c, x.time), big64(x.draw)) }
+	list := slices.Clone(l.gone)
+	slices.SortFunc(list, func(a, b thing) int {
+		return cmp.Or(quotient(b).Cmp(quotient(a)), cmp.Compare(a.number, b.number))
+	})
+	var numbers []int
+	for i, x := range list {
+		if i == l.c.Size {
+			return append(numbers, int(bigWeight(l.c, x.time).Int64()), x.draw)
+		}
+		numbers = append(numbers, x.time, x.key, x.draw)
+	}
+	return append(numbers, 0, 0)
 }
 
 // step answers; false if this stage asks nothing of the Numbers and Bytes of this step.
@@ -191,7 +265,7 @@ func (m *model) step(op api.Op) (api.Answer, bool) {
 	case op.Kind == api.Add:
 		return m.add(l, op), true
 	case op.Kind == api.Query:
-		return m.query(l, op)
+		return m.query(l, op), true
 	}
 	r := l.refused
 	return api.Answer{Numbers: []int{l.numbers, len(l.gone), r[api.ErrTime], r[api.ErrLate], r[api.ErrFuture], r[api.ErrHorizon], r[api.ErrKey], r[api.ErrDraw], r[api.ErrCap]}}, true
@@ -210,16 +284,23 @@ func (m *model) create(l *line, op api.Op) api.Answer {
 	return api.Answer{}
 }
 
-func (m *model) query(l *line, op api.Op) (api.Answer, bool) {
+func (m *model) query(l *line, op api.Op) api.Answer {
+	k := l.c.Kind
 	switch {
-	case l.c.Kind == api.Decay:
-		return api.Answer{Numbers: m.decay(l)}, true
-	case l.c.Kind != api.Count:
-		return api.Answer{}, false
-	case op.A < 1 || op.A > l.c.Window:
-		return api.Answer{Code: api.ErrRange}, true
+	case (k == api.Count || k == api.Distinct) && (op.A < 1 || op.A > l.c.Window):
+		return api.Answer{Code: api.ErrRange}
+	case k == api.Often && (op.A < 0 || op.A > api.MaxKey):
+		return api.Answer{Code: api.ErrKey}
+	case k == api.Count:
+		return api.Answer{Numbers: []int{m.estimate(l, op.A)}}
+	case k == api.Distinct:
+		return api.Answer{Numbers: m.distinct(l, op.A)}
+	case k == api.Often:
+		return api.Answer{Numbers: []int{m.often(l, op.A)}}
+	case k == api.Decay:
+		return api.Answer{Numbers: m.decay(l)}
 	}
-	return api.Answer{Numbers: []int{m.estimate(l, op.A)}}, true
+	return api.Answer{Numbers: m.drawn(l)}
 }
 
 func (m *model) checkedTick(op api.Op) api.Answer {
@@ -232,6 +313,20 @@ func (m *model) checkedTick(op api.Op) api.Answer {
 	return api.Answer{Numbers: []int{m.tick(op.A, op.B)}}
 }
 
+// someSeeds has pairs that are alike, at times, and such as leave few places and many ranks.
+func someSeeds(r *rand.Rand) [3][2]int {
+	var seeds [3][2]int
+	for i := range seeds {
+		first := []int{1, 2, 1 << (30 + r.Intn(31)), api.Prime - 1, 1 + r.Intn(api.Prime-1)}
+		second := []int{0, 0, r.Intn(50), api.Prime - 1, r.Intn(api.Prime)}
+		seeds[i] = [2]int{first[r.Intn(len(first))], second[r.Intn(len(second))]}
+		if i > 0 && r.Intn(3) == 0 {
+			seeds[i] = seeds[r.Intn(i)]
+		}
+	}
+	return seeds
+}
+
 // modelScript goes on slowly with the time, so that items are late, wait and are released; one of some edges at times.
 func modelScript(r *rand.Rand, length int) []api.Op {
 	clock := []int{0, 0, 50, 1<<20 + 300000, 1<<61 - 20, api.MaxTime - 60}[r.Intn(6)]
@@ -240,8 +335,10 @@ func modelScript(r *rand.Rand, length int) []api.Op {
 		c := base(1 + r.Intn(5))
 		c.Lag, c.Skew, c.Cap = r.Intn(8), r.Intn(12), 1+r.Intn(8)
 		c.Degree, c.Half, c.Mark = r.Intn(4), r.Intn(3), max(0, clock-70+r.Intn(80))
-		if c.Kind == api.Count {
-			c.K, c.Window = 1+r.Intn(3), 1+r.Intn(30)
+		c.K, c.Window, c.Bits, c.Size = 1+r.Intn(3), 1+r.Intn(30), 1+r.Intn(4), 1+r.Intn(5)
+		c.Rows, c.Width, c.Panes, c.Seeds = 1+r.Intn(3), 1+r.Intn(16), 1+r.Intn(8), someSeeds(r)
+		if c.Kind == api.Often {
+			c.Window = c.Panes * (1 + r.Intn(5))
 		}
 		script = append(script, create(r.Intn(9), c))
 	}
@@ -281,7 +378,7 @@ func TestAsTheModel(t *testing.T) {
 			met[a.Code]++
 		}
 	}
-	for code := api.OK; code <= api.ErrBudget; code++ {
+	for code := api.OK; code <= api.ErrRange; code++ {
 		if met[code] == 0 {
 			t.Errorf("the scripts never met the error %d", code)
 		}

@@ -91,9 +91,15 @@ func TestP1EdgesInEachField(t *testing.T) {
 }
 
 func TestP1LongScriptEnds(t *testing.T) {
-	script := []api.Op{create(0, base(api.Decay)), create(1, count(api.MaxK, api.MaxWindow))}
-	for i := range 100000 {
-		script = append(script, addAt(0, i+1), addAt(1, i+1), tick(i, 1))
+	script := []api.Op{create(0, count(api.MaxK, api.MaxWindow))}
+	for _, kind := range allKinds() {
+		script = append(script, create(kind, base(kind)))
+	}
+	for i := range 50000 {
+		for id := range len(allKinds()) + 1 {
+			script = append(script, add(id, i+1, i%1000, 1+i%77))
+		}
+		script = append(script, tick(i, 1), ask(i%6, 1+i%10))
 	}
 	if n := len(sketch.Run(script)); n != len(script) {
 		t.Errorf("P1: %d answers to %d steps", n, len(script))

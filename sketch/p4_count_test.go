@@ -231,7 +231,7 @@ func TestP4CountAsTheModel(t *testing.T) {
 				continue
 			}
 			l, e := m.line(op.Id), a.Numbers[0]
-			n := m.within(l, op.A)
+			n := len(m.within(l, op.A))
 			if l.c.K*max(e-n, n-e) > n {
 				t.Fatalf("P4: K %d, window %d: the estimate is %d of %d", l.c.K, op.A, e, n)
 			}

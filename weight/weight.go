@@ -18,6 +18,15 @@ func Of(c api.Config, time int) (int, bool) {
 	return doubled(age / c.Half)
 }
 
+// OrZero is the weight, 0 where there is none.
+func OrZero(c api.Config, time int) int {
+	w, some := Of(c, time)
+	if !some {
+		return 0
+	}
+	return w
+}
+
 // power divides ahead of each multiplication, since the product may be more than an int can hold.
 func power(base, degree int) (int, bool) {
 	product := 1

@@ -59,3 +59,16 @@ func TestAsExactNumbers(t *testing.T) {
 		}
 	}
 }
+
+func TestOrZero(t *testing.T) {
+	for _, c := range []struct {
+		config     api.Config
+		time, want int
+	}{
+		{api.Config{Degree: 2}, 4, 25}, {api.Config{Degree: 1, Mark: 5}, 5, 1}, {api.Config{Degree: 1, Mark: 5}, 4, 0}, {api.Config{}, -1, 0}, {api.Config{Half: 1}, 61, 1 << 61}, {api.Config{Half: 1}, 62, 0},
+	} {
+		if got := OrZero(c.config, c.time); got != c.want {
+			t.Errorf("%+v at %d: %d, want %d", c.config, c.time, got, c.want)
+		}
+	}
+}
