@@ -27,6 +27,10 @@ func (e *Engine) Step(op api.Op) api.Answer {
 		return e.query(op)
 	case api.Stats:
 		return e.stats(op)
+	case api.Save:
+		return api.Answer{Bytes: e.saved()}
+	case api.Load:
+		return e.load(op)
 	}
 	return refusal(api.ErrKind)
 }
@@ -53,7 +57,7 @@ func (e *Engine) add(op api.Op) api.Answer {
 	}
 	it := item.Item{Time: op.A, Key: op.B, Draw: op.C}
 	if code := s.refusal(it, e.clock); code != api.OK {
-		s.refused[code]++
+		s.countRefusal(code)
 		return refusal(code)
 	}
 	return api.Answer{Numbers: []int{s.accept(it)}}
@@ -102,6 +106,15 @@ func (e *Engine) stats(op api.Op) api.Answer {
 		return refusal(api.ErrId)
 	}
 	return api.Answer{Numbers: s.stats()}
+}
+
+func (e *Engine) load(op api.Op) api.Answer {
+	whole := loaded(op.Bytes)
+	if whole == nil {
+		return refusal(api.ErrBytes)
+	}
+	*e = *whole
+	return api.Answer{}
 }
 
 // find is the series of an Id, nil if there is none.

@@ -8,6 +8,9 @@ import (
 	"sketch/queue"
 )
 
+// maxCount is far above what any script counts up to, and far enough below what an int holds. Only bytes that were forged tell of so many: there the counting ends, so that what is saved of it can be loaded again.
+const maxCount = 1 << 62
+
 type series struct {
 	id       int
 	config   api.Config
@@ -38,10 +41,14 @@ func (s *series) refusal(it item.Item, clock int) api.Errno {
 	if code := s.kind.Refuse(s.config, it); code != api.OK {
 		return code
 	}
-	if s.buffer.Len() >= s.config.Cap {
+	if s.buffer.Len() >= s.config.Cap || s.accepted >= maxCount {
 		return api.ErrCap
 	}
 	return api.OK
+}
+
+func (s *series) countRefusal(code api.Errno) {
+	s.refused[code] = min(s.refused[code]+1, maxCount)
 }
 
 // accept is the number that the item gets.
@@ -65,10 +72,14 @@ func (s *series) release(watermark int) {
 }
 
 func (s *series) stats() []int {
-	told := [...]api.Errno{api.ErrTime, api.ErrLate, api.ErrFuture, api.ErrHorizon, api.ErrKey, api.ErrDraw, api.ErrCap}
 	numbers := []int{s.accepted, s.released}
-	for _, code := range told {
+	for _, code := range counted() {
 		numbers = append(numbers, s.refused[code])
 	}
 	return numbers
+}
+
+// counted is the errors whose refusals are counted, in the order in which they are told.
+func counted() [7]api.Errno {
+	return [...]api.Errno{api.ErrTime, api.ErrLate, api.ErrFuture, api.ErrHorizon, api.ErrKey, api.ErrDraw, api.ErrCap}
 }

@@ -1,11 +1,17 @@
 package kinds
 
 import (
+	"math/bits"
+
 	"sketch/api"
 	"sketch/item"
 	"sketch/limit"
+	"sketch/pack"
 	"sketch/row"
 )
+
+// maxSizes is as many as there are up to 2 to the 61: no script comes to twice as many items.
+const maxSizes = 62
 
 // bucket stands for as many items as its size, the newest of which has its time.
 type bucket struct {
@@ -21,7 +27,7 @@ type countNotes struct {
 
 func startCount(c api.Config) Notes {
 	n := newCount(c)
-	return Notes{Release: n.release, Query: n.query, Sweep: n.sweep}
+	return Notes{Release: n.release, Query: n.query, Sweep: n.sweep, Save: n.save, Load: n.load}
 }
 
 func newCount(c api.Config) *countNotes {
@@ -88,4 +94,43 @@ func (n *countNotes) sweep(watermark, budget int) (thrown, left int) {
 // dead is how many buckets are; they are the oldest ones.
 func (n *countNotes) dead(watermark int) int {
 	return n.buckets.Past(watermark - n.config.Window)
+}
+
+// save goes from size to size, the greatest first: none is left out below it. Dead buckets are saved too, since a TICK tells of them.
+func (n *countNotes) save(w *pack.Writer, _ int) {
+	sizes, start := 0, 0
+	if n.buckets.Len() > 0 {
+		sizes = bits.Len(uint(n.buckets.At(0).size))
+	}
+	w.Number(sizes)
+	for bit := sizes - 1; bit >= 0; bit-- {
+		next := n.endOf(1<<bit, start)
+		w.Number(next - start)
+		for ; start < next; start++ {
+			w.Number(n.buckets.At(start).time)
+		}
+	}
+}
+
+// endOf is the place behind the newest bucket of a size, if those of this size start at start.
+func (n *countNotes) endOf(size, start int) int {
+	end := start
+	for end < n.buckets.Len() && n.buckets.At(end).size == size {
+		end++
+	}
+	return end
+}
+
+// load asks for K buckets at least of each size but the greatest: so many are left when two of them are joined, and the greatest ones are lost first.
+func (n *countNotes) load(r *pack.Reader, known *Known) {
+	least, items, time := 1, 0, 0
+	for bit := r.Number(0, maxSizes) - 1; bit >= 0; bit-- {
+		for range r.Number(least, n.config.K+1) {
+			time = r.Number(time, known.Watermark)
+			n.buckets.Put(bucket{size: 1 << bit, time: time})
+			items += 1 << bit
+			r.Check(items <= known.Released)
+		}
+		least = n.config.K
+	}
 }

@@ -3,6 +3,7 @@ package kinds
 import (
 	"sketch/api"
 	"sketch/item"
+	"sketch/pack"
 	"sketch/weight"
 )
 
@@ -15,7 +16,7 @@ type decayNotes struct {
 
 func startDecay(c api.Config) Notes {
 	d := &decayNotes{config: c}
-	return Notes{Release: d.release, Query: d.query, Sweep: sweepNothing}
+	return Notes{Release: d.release, Query: d.query, Sweep: sweepNothing, Save: d.save, Load: d.load}
 }
 
 func (d *decayNotes) release(it item.Item, _ int) {
@@ -26,4 +27,17 @@ func (d *decayNotes) release(it item.Item, _ int) {
 
 func (d *decayNotes) query(_, watermark int) ([]int, api.Errno) {
 	return []int{d.quotient, d.remainder, weight.OrZero(d.config, watermark)}, api.OK
+}
+
+func (d *decayNotes) save(w *pack.Writer, _ int) {
+	w.Number(d.quotient)
+	w.Number(d.remainder)
+}
+
+// load knows that an item weighs at least 1 and at most MaxWeight.
+func (d *decayNotes) load(r *pack.Reader, known *Known) {
+	d.quotient = r.Number(0, known.Released)
+	d.remainder = r.Number(0, api.MaxWeight-1)
+	r.Check(d.quotient < known.Released || d.remainder == 0)
+	r.Check(d.quotient > 0 || d.remainder >= known.Released)
 }

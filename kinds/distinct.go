@@ -7,6 +7,7 @@ import (
 	"sketch/hash"
 	"sketch/item"
 	"sketch/limit"
+	"sketch/pack"
 	"sketch/row"
 )
 
@@ -24,7 +25,7 @@ type distinctNotes struct {
 
 func startDistinct(c api.Config) Notes {
 	n := newDistinct(c)
-	return Notes{Release: n.release, Query: n.query, Sweep: sweepNothing}
+	return Notes{Release: n.release, Query: n.query, Sweep: sweepNothing, Save: n.save, Load: n.load}
 }
 
 func newDistinct(c api.Config) *distinctNotes {
@@ -81,4 +82,29 @@ func greatestPast(register *row.Row[mark], past int) int {
 		return 0
 	}
 	return register.At(oldest).rank
+}
+
+// save leaves out what no window reaches any more: how long it is kept is not to be seen.
+func (n *distinctNotes) save(w *pack.Writer, watermark int) {
+	for _, register := range n.registers {
+		oldest := register.Past(watermark - n.config.Window)
+		w.Number(register.Len() - oldest)
+		for place := oldest; place < register.Len(); place++ {
+			w.Number(register.At(place).time)
+			w.Number(register.At(place).rank)
+		}
+	}
+}
+
+func (n *distinctNotes) load(r *pack.Reader, known *Known) {
+	items := 0
+	for _, register := range n.registers {
+		last := mark{time: -1, rank: api.MaxRho + 1}
+		for range r.Number(0, api.MaxRho) {
+			last = mark{time: r.Number(last.time+1, known.Watermark), rank: r.Number(1, last.rank-1)}
+			register.Put(last)
+			items++
+		}
+	}
+	r.Check(items <= known.Released)
 }

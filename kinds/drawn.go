@@ -6,6 +6,8 @@ import (
 
 	"sketch/api"
 	"sketch/item"
+	"sketch/limit"
+	"sketch/pack"
 	"sketch/queue"
 	"sketch/weight"
 )
@@ -24,7 +26,7 @@ type drawnNotes struct {
 
 func startDrawn(c api.Config) Notes {
 	n := newDrawn(c)
-	return Notes{Release: n.release, Query: n.query, Sweep: sweepNothing}
+	return Notes{Release: n.release, Query: n.query, Sweep: sweepNothing, Save: n.save, Load: n.load}
 }
 
 func newDrawn(c api.Config) *drawnNotes {
@@ -65,4 +67,24 @@ func (n *drawnNotes) query(_, _ int) ([]int, api.Errno) {
 		next = tickets[n.config.Size]
 	}
 	return append(numbers, next.weight, next.item.Draw), api.OK
+}
+
+func (n *drawnNotes) save(w *pack.Writer, _ int) {
+	for _, x := range n.draw.All() {
+		w.Number(x.item.Number)
+		w.Parts(askDraw(&x.item))
+	}
+}
+
+// load needs no word on how many tickets there are: as many were kept as could be.
+func (n *drawnNotes) load(r *pack.Reader, known *Known) {
+	for range min(known.Released, n.config.Size+1) {
+		it := item.Item{Number: known.Number(r)}
+		r.Parts(askDraw(&it))
+		r.Check(limit.Within(it.Time, 0, known.Watermark) && refuseDrawn(n.config, it) == api.OK)
+		if r.Wrong() {
+			return
+		}
+		n.release(it, known.Watermark)
+	}
 }

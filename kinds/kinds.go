@@ -5,14 +5,21 @@ import (
 	"sketch/api"
 	"sketch/item"
 	"sketch/limit"
+	"sketch/pack"
 )
 
 // Kind is what one kind does in its own way.
 type Kind struct {
 	// Fits tells whether what this kind names in a configuration is as it may be.
 	Fits func(c api.Config) bool
+	// Named is where the numbers stand that this kind names in a configuration, but for Seeds.
+	Named func(c *api.Config) []*int
+	// Pairs is how many pairs of Seeds it names.
+	Pairs func(c api.Config) int
 	// Refuse is the first error that only this kind finds in an item; OK if there is none.
 	Refuse func(c api.Config, it item.Item) api.Errno
+	// Asked is where the numbers stand that this kind looks at in an item.
+	Asked func(it *item.Item) []*int
 	// Start makes the notes of a new series.
 	Start func(c api.Config) Notes
 }
@@ -24,6 +31,10 @@ type Notes struct {
 	Query   func(a, watermark int) ([]int, api.Errno)
 	// Sweep throws away what is dead by this watermark, up to the budget; it tells how much it threw away and how much of it is left.
 	Sweep func(watermark, budget int) (thrown, left int)
+	// Save writes all that a step may yet tell, by this watermark.
+	Save func(w *pack.Writer, watermark int)
+	// Load reads into new notes what Save wrote. What no released items could have left makes the reader wrong.
+	Load func(r *pack.Reader, known *Known)
 }
 
 // Of is the kind of a configuration; false if it is no configuration.
@@ -37,11 +48,11 @@ func Of(c api.Config) (Kind, bool) {
 
 func find(number int) (Kind, bool) {
 	table := [...]Kind{
-		api.Count:    {Fits: countFits, Refuse: refuseNothing, Start: startCount},
-		api.Distinct: {Fits: distinctFits, Refuse: refuseKey, Start: startDistinct},
-		api.Often:    {Fits: oftenFits, Refuse: refuseKey, Start: startOften},
-		api.Decay:    {Fits: decayFits, Refuse: refuseWeightless, Start: startDecay},
-		api.Drawn:    {Fits: drawnFits, Refuse: refuseDrawn, Start: startDrawn},
+		api.Count:    {Fits: countFits, Named: countNamed, Pairs: noPairs, Refuse: refuseNothing, Asked: askTime, Start: startCount},
+		api.Distinct: {Fits: distinctFits, Named: distinctNamed, Pairs: onePair, Refuse: refuseKey, Asked: askKey, Start: startDistinct},
+		api.Often:    {Fits: oftenFits, Named: oftenNamed, Pairs: pairOfEachRow, Refuse: refuseKey, Asked: askKey, Start: startOften},
+		api.Decay:    {Fits: decayFits, Named: decayNamed, Pairs: noPairs, Refuse: refuseWeightless, Asked: askTime, Start: startDecay},
+		api.Drawn:    {Fits: drawnFits, Named: drawnNamed, Pairs: noPairs, Refuse: refuseDrawn, Asked: askDraw, Start: startDrawn},
 	}
 	if !limit.Within(number, api.Count, len(table)-1) {
 		return Kind{}, false

@@ -12,10 +12,10 @@ import (
 func TestEveryKindHasAllFunctions(t *testing.T) {
 	for number := api.Count; number <= api.Drawn; number++ {
 		k, known := find(number)
-		if !known || k.Fits == nil || k.Refuse == nil || k.Start == nil {
+		if !known || k.Fits == nil || k.Named == nil || k.Pairs == nil || k.Refuse == nil || k.Asked == nil || k.Start == nil {
 			t.Fatalf("kind %d: %v, %+v", number, known, k)
 		}
-		if n := k.Start(api.Config{}); n.Release == nil || n.Query == nil || n.Sweep == nil {
+		if n := k.Start(api.Config{}); n.Release == nil || n.Query == nil || n.Sweep == nil || n.Save == nil || n.Load == nil {
 			t.Errorf("kind %d: notes %+v", number, n)
 		}
 	}

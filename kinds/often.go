@@ -5,6 +5,7 @@ import (
 	"sketch/hash"
 	"sketch/item"
 	"sketch/limit"
+	"sketch/pack"
 	"sketch/row"
 )
 
@@ -17,6 +18,8 @@ type pane struct {
 	counts cells
 }
 
+func (p pane) empty() bool { return p.counts == (cells{}) }
+
 // oftenNotes fills one pane at a time; the row has those that were filled ahead of it.
 type oftenNotes struct {
 	config api.Config
@@ -26,7 +29,7 @@ type oftenNotes struct {
 
 func startOften(c api.Config) Notes {
 	n := newOften(c)
-	return Notes{Release: n.release, Query: n.query, Sweep: sweepNothing}
+	return Notes{Release: n.release, Query: n.query, Sweep: sweepNothing, Save: n.save, Load: n.load}
 }
 
 func newOften(c api.Config) *oftenNotes {
@@ -54,7 +57,7 @@ func (n *oftenNotes) turn(number int) {
 	if n.open.number == number {
 		return
 	}
-	if n.open.counts != (cells{}) {
+	if !n.open.empty() {
 		n.closed.Put(n.open)
 	}
 	n.open = pane{number: number}
@@ -89,13 +92,22 @@ func (n *oftenNotes) query(a, watermark int) ([]int, api.Errno) {
 // counted is of the panes that have a time above past.
 func (n *oftenNotes) counted(past int) cells {
 	var sum cells
-	for place := n.closed.Past(past); place < n.closed.Len(); place++ {
-		sum.add(n.closed.At(place).counts)
-	}
-	if n.lastTime(n.open) > past {
-		sum.add(n.open.counts)
+	for _, p := range n.panes(past) {
+		sum.add(p.counts)
 	}
 	return sum
+}
+
+// panes is those that have a time above past and are not empty, the oldest first.
+func (n *oftenNotes) panes(past int) []pane {
+	var list []pane
+	for place := n.closed.Past(past); place < n.closed.Len(); place++ {
+		list = append(list, n.closed.At(place))
+	}
+	if n.lastTime(n.open) > past && !n.open.empty() {
+		list = append(list, n.open)
+	}
+	return list
 }
 
 func (c *cells) add(other cells) {
@@ -104,4 +116,44 @@ func (c *cells) add(other cells) {
 			c[r][place] += other[r][place]
 		}
 	}
+}
+
+// save leaves out the panes that are not counted any more: how long they are kept is not to be seen.
+func (n *oftenNotes) save(w *pack.Writer, watermark int) {
+	panes := n.panes(watermark - n.config.Window)
+	w.Number(len(panes))
+	for _, p := range panes {
+		w.Number(p.number)
+		for r := range n.config.Rows {
+			for place := range n.config.Width {
+				w.Number(p.counts[r][place])
+			}
+		}
+	}
+}
+
+func (n *oftenNotes) load(r *pack.Reader, known *Known) {
+	left, least := known.Released, 0
+	for range r.Number(0, n.config.Panes+1) {
+		number := r.Number(least, known.Watermark/n.length())
+		n.turn(number)
+		left -= n.fill(r, left)
+		least = number + 1
+	}
+}
+
+// fill is how many items the open pane has, which are the same in each Row.
+func (n *oftenNotes) fill(r *pack.Reader, most int) int {
+	items := 0
+	for row := range n.config.Rows {
+		sum := 0
+		for place := range n.config.Width {
+			count := r.Number(0, most-sum)
+			n.open.counts[row][place] = count
+			sum += count
+		}
+		r.Check(sum > 0 && (row == 0 || sum == items))
+		items = sum
+	}
+	return items
 }

@@ -2,6 +2,7 @@ package sketch_test
 
 import (
 	"cmp"
+	"maps"
 	"math/big"
 	"math/rand"
 	"slices"
@@ -15,6 +16,7 @@ import (
 type model struct {
 	clock int
 	lines []*line
+	saved map[string]*model // by the Bytes that a SAVE answered
 }
 
 type line struct {
@@ -248,7 +250,35 @@ func (m *model) drawn(l *line) []int {
 	return append(numbers, 0, 0)
 }
 
-// step answers; false if this stage asks nothing of the Numbers and Bytes of this step.
+func (m *model) clone() *model {
+	other := &model{clock: m.clock}
+	for _, l := range m.lines {
+		x := *l
+		x.waiting, x.gone, x.row, x.refused = slices.Clone(l.waiting), slices.Clone(l.gone), slices.Clone(l.row), maps.Clone(l.refused)
+		other.lines = append(other.lines, &x)
+	}
+	return other
+}
+
+// keep is for a SAVE; its Bytes are in a form that only the program knows.
+func (m *model) keep(bytes string) {
+	if m.saved == nil {
+		m.saved = map[string]*model{}
+	}
+	m.saved[bytes] = m.clone()
+}
+
+func (m *model) load(bytes string) api.Answer {
+	known := m.saved[bytes]
+	if known == nil {
+		return api.Answer{Code: api.ErrBytes}
+	}
+	whole := known.clone()
+	m.clock, m.lines = whole.clock, whole.lines
+	return api.Answer{}
+}
+
+// step answers; false if the Bytes of the answer are left to the program.
 func (m *model) step(op api.Op) (api.Answer, bool) {
 	l := m.line(op.Id)
 	switch {
@@ -256,8 +286,10 @@ func (m *model) step(op api.Op) (api.Answer, bool) {
 		return m.create(l, op), true
 	case op.Kind == api.Tick:
 		return m.checkedTick(op), true
-	case op.Kind == api.Save || op.Kind == api.Load:
+	case op.Kind == api.Save:
 		return api.Answer{}, false
+	case op.Kind == api.Load:
+		return m.load(op.Bytes), true
 	case op.Kind < api.Create || op.Kind > api.Load:
 		return api.Answer{Code: api.ErrKind}, true
 	case l == nil:
@@ -364,21 +396,30 @@ func modelScript(r *rand.Rand, length int) []api.Op {
 	return script
 }
 
+// asTheModel plays the script beside a model; it counts the codes that it met.
+func asTheModel(t *testing.T, script []api.Op, met map[api.Errno]int) {
+	t.Helper()
+	m := &model{}
+	for i, a := range sketch.Run(script) {
+		want, asked := m.step(script[i])
+		if !asked {
+			want.Bytes = a.Bytes
+			m.keep(a.Bytes)
+		}
+		if !sameAnswer(want, a) {
+			t.Fatalf("step %d %+v: answered %+v, want %+v", i, script[i], a, want)
+		}
+		met[a.Code]++
+	}
+}
+
 func TestAsTheModel(t *testing.T) {
 	r := rand.New(rand.NewSource(3))
 	met := map[api.Errno]int{}
 	for range 2000 {
-		script := modelScript(r, 80)
-		m := &model{}
-		for i, a := range sketch.Run(script) {
-			want, asked := m.step(script[i])
-			if asked && !sameAnswer(want, a) {
-				t.Fatalf("step %d %+v: answered %+v, want %+v", i, script[i], a, want)
-			}
-			met[a.Code]++
-		}
+		asTheModel(t, modelScript(r, 80), met)
 	}
-	for code := api.OK; code <= api.ErrRange; code++ {
+	for code := api.OK; code <= api.ErrBytes; code++ {
 		if met[code] == 0 {
 			t.Errorf("the scripts never met the error %d", code)
 		}

@@ -22,7 +22,7 @@ func fullScript() []api.Op {
 		for id := range 7 {
 			script = append(script, add(id, time+1, 3, 2), add(id, time+3, 5, time), add(id, time+2, -1, 1), stats(id), ask(id, time))
 		}
-		script = append(script, tick(time, time), tick(-1, 0), tick(0, 101), api.Op{Kind: api.Save}, api.Op{Kind: time + 8})
+		script = append(script, tick(time, time), tick(-1, 0), tick(0, 101), save(), api.Op{Kind: time + 8})
 	}
 	return script
 }
@@ -41,9 +41,18 @@ func sameAnswer(a, b api.Answer) bool {
 
 func sameAnswers(a, b []api.Answer) bool { return slices.EqualFunc(a, b, sameAnswer) }
 
+// loadScript loads the same Bytes twice, and goes on behind both.
+func loadScript() []api.Op {
+	script := fullScript()
+	answers := sketch.Run(append(slices.Clone(script), save()))
+	again := load(answers[len(script)].Bytes)
+	more := []api.Op{save(), tick(14, 1), addAt(1, 16), ask(1, 9), ask(2, 9), ask(3, 3), query(4), query(5), tick(18, 0), save()}
+	return slices.Concat(script[:50], []api.Op{again}, more, []api.Op{load("no"), again}, more)
+}
+
 func scripts() [][]api.Op {
 	r := rand.New(rand.NewSource(2))
-	list := [][]api.Op{fullScript()}
+	list := [][]api.Op{fullScript(), loadScript()}
 	for range 20 {
 		list = append(list, wildScript(r, 60))
 	}

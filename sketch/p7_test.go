@@ -1,6 +1,7 @@
 package sketch_test
 
 import (
+	"math/bits"
 	"math/rand"
 	"slices"
 	"testing"
@@ -100,5 +101,116 @@ func TestP7DeadOrSweptIsTheSame(t *testing.T) {
 		}
 		none := withBudgets(script, func() int { return 0 })
 		sameButForTicks(t, script, sketch.Run(none), sketch.Run(script))
+	}
+}
+
+// Saved with other budgets and loaded, all goes on as before: only TICKs tell of them.
+func TestP7BudgetsBehindLoad(t *testing.T) {
+	r := rand.New(rand.NewSource(19))
+	differ := 0
+	for round := range 400 {
+		script := countScript(r, 200)
+		if round%4 == 0 {
+			script = modelScript(r, 100)
+		}
+		script = withBudgets(script, func() int { return r.Intn(2) })
+		other := withBudgets(script, func() int { return []int{0, api.MaxBudget}[round%2] })
+		at := r.Intn(len(script))
+		a, b := saved(t, script[:at]), saved(t, other[:at])
+		if a != b {
+			differ++
+		}
+		want := sketch.Run(script)[at:]
+		sameButForTicks(t, script[at:], want, sketch.Run(append([]api.Op{load(a)}, other[at:]...))[1:])
+		sameButForTicks(t, script[at:], want, sketch.Run(append([]api.Op{load(b)}, script[at:]...))[1:])
+	}
+	if differ < 30 {
+		t.Errorf("only %d wholes have dead buckets or none by the budgets", differ)
+	}
+}
+
+// mostBytes is how long the Bytes may be with n items within Window.
+func mostBytes(k, n int) int { return 400 + 32*(k+1)*(bits.Len(uint(n))+1) }
+
+// streamScript is a stream of items to a COUNT, with a SAVE behind each TICK; at times nothing comes for a while.
+func streamScript(r *rand.Rand, c api.Config, clock, ticks int) []api.Op {
+	script := []api.Op{tick(clock, 0), create(api.MaxId, c)}
+	most := 1 + r.Intn(c.Cap)
+	for range ticks {
+		for range r.Intn(most + 1) {
+			script = append(script, addAt(api.MaxId, clock+1-r.Intn(c.Lag+1)))
+		}
+		if clock += 1 + c.Lag; r.Intn(30) == 0 {
+			clock += r.Intn(2 * c.Window)
+		}
+		script = append(script, tick(clock, []int{api.MaxBudget, r.Intn(4)}[r.Intn(2)]), save())
+	}
+	return script
+}
+
+func TestP7NotesAreShort(t *testing.T) {
+	r := rand.New(rand.NewSource(20))
+	met := 0
+	for range 60 {
+		c := api.Config{Kind: api.Count, Lag: r.Intn(3), Skew: api.MaxSkew, Cap: 1 + r.Intn(api.MaxCap), K: 1 + r.Intn(api.MaxK), Window: []int{1, 1 + r.Intn(9), 1 + r.Intn(100), api.MaxWindow}[r.Intn(4)]}
+		clock := []int{0, 1 << 30, api.MaxTime - 1000000}[r.Intn(3)]
+		script := streamScript(r, c, clock, 400)
+		m := &model{}
+		for i, a := range sketch.Run(script) {
+			m.step(script[i])
+			l := m.line(api.MaxId)
+			if script[i].Kind != api.Save || len(l.waiting) > 0 || m.dead(l) > 0 {
+				continue
+			}
+			met++
+			n := len(m.within(l, c.Window))
+			if len(a.Bytes) == 0 || len(a.Bytes) > mostBytes(c.K, n) {
+				t.Fatalf("P7: %+v, %d items within Window: %d bytes", c, n, len(a.Bytes))
+			}
+		}
+	}
+	if met < 2000 {
+		t.Errorf("only %d wholes have neither waiting items nor dead buckets", met)
+	}
+}
+
+// Great numbers all over: times near the end, the greatest configuration, many items of which all are within Window.
+func TestP7ManyItems(t *testing.T) {
+	for k := 1; k <= api.MaxK; k++ {
+		c := api.Config{Kind: api.Count, Lag: api.MaxLag, Skew: api.MaxSkew, Cap: api.MaxCap, K: k, Window: api.MaxWindow}
+		clock := api.MaxTime - 1100
+		script := []api.Op{tick(clock, 0), create(api.MaxId, c)}
+		for n := range api.MaxWindow {
+			for range api.MaxCap + 1 {
+				script = append(script, addAt(api.MaxId, clock+n+1-c.Lag), addAt(api.MaxId, -1), addAt(api.MaxId, 5))
+			}
+			script = append(script, tick(clock+n+1, 0))
+			if n%111 != 0 {
+				continue
+			}
+			items := api.MaxCap * (n + 1)
+			if got := len(saved(t, script)); got > mostBytes(k, items) {
+				t.Errorf("P7: K %d, %d items: %d bytes", k, items, got)
+			}
+		}
+	}
+}
+
+// What has left its Window makes the Bytes no longer, however much of it there was.
+func TestP7LongPast(t *testing.T) {
+	for _, window := range []int{1, 3} {
+		script := []api.Op{create(7, count(1, window))}
+		for time := range 20000 {
+			for range 8 {
+				script = append(script, addAt(7, time+1))
+			}
+			script = append(script, tick(time+1, api.MaxBudget))
+		}
+		if got := len(saved(t, script)); got > mostBytes(1, 8*window) {
+			t.Errorf("P7: Window %d: %d bytes", window, got)
+		}
+		if got := len(saved(t, append(script, tick(30000, api.MaxBudget)))); got > mostBytes(1, 0) {
+			t.Errorf("P7: no items: %d bytes", got)
+		}
 	}
 }

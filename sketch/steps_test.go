@@ -25,6 +25,21 @@ func ask(id, a int) api.Op { return api.Op{Kind: api.Query, Id: id, A: a} }
 
 func stats(id int) api.Op { return api.Op{Kind: api.Stats, Id: id} }
 
+func save() api.Op { return api.Op{Kind: api.Save} }
+
+func load(bytes string) api.Op { return api.Op{Kind: api.Load, Bytes: bytes} }
+
+// saved is the Bytes of a SAVE behind the script.
+func saved(t *testing.T, script []api.Op) string {
+	t.Helper()
+	answers := sketch.Run(append(slices.Clone(script), save()))
+	last := answers[len(answers)-1]
+	if last.Code != api.OK || last.Bytes == "" || len(last.Numbers) != 0 {
+		t.Fatalf("P6: SAVE is answered with %+v", last)
+	}
+	return last.Bytes
+}
+
 // step is a step and the answer that the document asks for.
 type step struct {
 	op      api.Op
